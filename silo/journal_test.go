@@ -1,0 +1,31 @@
+package silo
+
+import (
+	"testing"
+
+	"silo/api"
+)
+
+func TestWriteSyncsTheWholeJournal(t *testing.T) {
+	s := New()
+	pairs := []api.Pair{{Key: "a", Value: "1"}}
+	synced := func(want int) {
+		t.Helper()
+		if s.synced != want {
+			t.Errorf("P4: %d bytes of the journal are synced, want %d", s.synced, want)
+		}
+	}
+	synced(0)
+	s.Write(pairs, false)
+	s.Write(pairs, false)
+	synced(0)
+	s.Write(nil, true)
+	synced(0)
+	s.Write(pairs, true)
+	whole := len(s.Journal())
+	synced(whole)
+	s.Write(pairs, false)
+	synced(whole)
+	s.Write(pairs, true)
+	synced(len(s.Journal()))
+}
