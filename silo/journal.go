@@ -6,6 +6,8 @@ type journal struct {
 	synced  int // how many of the bytes last, whatever stops
 }
 
+func (j *journal) hasRecords() bool { return len(j.records) > 0 }
+
 func (j *journal) addRecord(record []byte) {
 	j.records = append(j.records, record...)
 }

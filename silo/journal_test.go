@@ -29,3 +29,14 @@ func TestWriteSyncsTheWholeJournal(t *testing.T) {
 	s.Write(pairs, true)
 	synced(len(s.Journal()))
 }
+
+func TestFlushLeavesNothingSynced(t *testing.T) {
+	s := New()
+	pairs := []api.Pair{{Key: "a", Value: "1"}}
+	s.Write(pairs, true)
+	s.Flush()
+	s.Write(pairs, false)
+	if s.synced != 0 {
+		t.Errorf("P8: %d bytes of the journal are synced behind a Flush, want 0", s.synced)
+	}
+}

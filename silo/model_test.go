@@ -2,6 +2,7 @@ package silo_test
 
 import (
 	"cmp"
+	"math"
 	"math/rand"
 	"slices"
 	"strconv"
@@ -11,11 +12,13 @@ import (
 	"silo/silo"
 )
 
-// model keeps every state that there was, so that it need not know what an entry is.
+// model keeps every state that there was, so that what it reads hangs on no entry; beside them the entries of each level, for Tables alone.
 type model struct {
 	states   []map[string]string
 	snaps    map[int]int
 	lastSnap int
+	memory   []api.Entry
+	laid     [api.LastLevel + 1][]api.Table
 }
 
 func newModel() *model {
@@ -37,7 +40,78 @@ func (m *model) write(pairs []api.Pair) int {
 		}
 	}
 	m.states = append(m.states, state)
+	for i, pair := range pairs {
+		if !slices.ContainsFunc(pairs[i+1:], func(later api.Pair) bool { return later.Key == pair.Key }) {
+			m.memory = append(m.memory, api.Entry{Key: pair.Key, Seq: m.last(), Gone: pair.Gone, Value: pair.Value})
+		}
+	}
 	return m.last()
+}
+
+func (m *model) flush() api.Errno {
+	if m.memory == nil {
+		return api.ErrEmpty
+	}
+	m.laid[0] = append([]api.Table{on(0, m.needed(m.memory, 0)...)}, m.laid[0]...)
+	m.memory = nil
+	return api.OK
+}
+
+func (m *model) merge(level int) api.Errno {
+	if len(m.laid[level]) == 0 {
+		return api.ErrEmpty
+	}
+	var all []api.Entry
+	for _, table := range slices.Concat(m.laid[level], m.laid[level+1]) {
+		all = append(all, table.Entries...)
+	}
+	m.laid[level], m.laid[level+1] = nil, nil
+	if needed := m.needed(all, level+1); len(needed) > 0 {
+		m.laid[level+1] = []api.Table{on(level+1, needed...)}
+	}
+	return api.OK
+}
+
+// needed asks of each entry by itself whether it is needed, and takes last deletions one by one.
+func (m *model) needed(entries []api.Entry, level int) []api.Entry {
+	var kept []api.Entry
+	for _, entry := range entries {
+		if m.isNeeded(entry, entries) {
+			kept = append(kept, entry)
+		}
+	}
+	for level == api.LastLevel {
+		last := slices.IndexFunc(kept, func(entry api.Entry) bool { return entry.Gone && isLast(entry, kept) })
+		if last < 0 {
+			break
+		}
+		kept = slices.Delete(kept, last, last+1)
+	}
+	slices.SortFunc(kept, func(a, b api.Entry) int {
+		return cmp.Or(cmp.Compare(a.Key, b.Key), b.Seq-a.Seq)
+	})
+	return kept
+}
+
+func (m *model) isNeeded(entry api.Entry, entries []api.Entry) bool {
+	ahead := math.MaxInt
+	for _, other := range entries {
+		if other.Key == entry.Key && other.Seq > entry.Seq {
+			ahead = min(ahead, other.Seq)
+		}
+	}
+	for _, seq := range m.snaps {
+		if entry.Seq <= seq && seq < ahead {
+			return true
+		}
+	}
+	return ahead == math.MaxInt
+}
+
+func isLast(entry api.Entry, entries []api.Entry) bool {
+	return !slices.ContainsFunc(entries, func(other api.Entry) bool {
+		return other.Key == entry.Key && other.Seq < entry.Seq
+	})
 }
 
 func (m *model) scan(from string, most, at int) []api.Pair {
@@ -74,6 +148,7 @@ func TestStoreTellsWhatTheBatchesMake(t *testing.T) {
 		s, m := silo.New(), newModel()
 		for range 60 {
 			step(t, random, s, m)
+			tables(t, s, slices.Concat(m.laid[:]...)...)
 			compare(t, random, s, m, 0, m.last())
 			for at := -1; at <= m.lastSnap+1; at++ {
 				if seq, ok := m.snaps[at]; ok {
@@ -91,7 +166,7 @@ func TestStoreTellsWhatTheBatchesMake(t *testing.T) {
 
 func step(t *testing.T, random *rand.Rand, s *silo.Store, m *model) {
 	t.Helper()
-	switch random.Intn(6) {
+	switch random.Intn(10) {
 	case 0:
 		if len(m.snaps) < api.MaxSnaps {
 			m.lastSnap++
@@ -106,6 +181,11 @@ func step(t *testing.T, random *rand.Rand, s *silo.Store, m *model) {
 		} else {
 			drop(t, s, at, api.ErrSnap)
 		}
+	case 2, 3:
+		flush(t, s, m.flush())
+	case 4, 5:
+		level := random.Intn(api.LastLevel)
+		merge(t, s, level, m.merge(level))
 	default:
 		pairs := randomBatch(random)
 		write(t, s, m.write(pairs), pairs...)

@@ -89,13 +89,29 @@ func (s *Store) Drop(at int) api.Errno {
 }
 
 // Flush lays down what was written (P8).
-func (s *Store) Flush() api.Errno { return api.OK }
+func (s *Store) Flush() api.Errno {
+	if !s.hasRecords() {
+		return api.ErrEmpty
+	}
+	s.layDown(s.snapSeqs())
+	s.journal = journal{}
+	return api.OK
+}
 
 // Merge merges a level into the next (P9).
-func (s *Store) Merge(level int) api.Errno { return api.OK }
+func (s *Store) Merge(level int) api.Errno {
+	if level < 0 || level >= api.LastLevel {
+		return api.ErrArg
+	}
+	if !s.hasTable(level) {
+		return api.ErrEmpty
+	}
+	s.merge(level, s.snapSeqs())
+	return api.OK
+}
 
 // Tables tells what was laid down (P10).
-func (s *Store) Tables() []api.Table { return nil }
+func (s *Store) Tables() []api.Table { return s.tellLaid() }
 
 // Journal tells the bytes that were written since the last Flush (P11).
 func (s *Store) Journal() string { return string(s.records) }

@@ -44,6 +44,15 @@ func (l *snapshots) snapSeq(number int) (int, bool) {
 	return l.snaps[at].seq, true
 }
 
+// snapSeqs tells the batch numbers at which the snapshots see.
+func (l *snapshots) snapSeqs() []int {
+	seqs := make([]int, 0, len(l.snaps))
+	for _, snap := range l.snaps {
+		seqs = append(seqs, snap.seq)
+	}
+	return seqs
+}
+
 func (l *snapshots) indexSnap(number int) (int, bool) {
 	for at, snap := range l.snaps {
 		if snap.number == number {

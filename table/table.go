@@ -20,6 +20,37 @@ type Memory struct {
 	run
 }
 
+// Laid is a table that was laid down.
+type Laid struct {
+	run
+	Level int
+}
+
+// Down tells what the table in memory is on level 0, where snapshots see at the batch numbers seqs.
+func (m *Memory) Down(seqs []int) Laid {
+	laid := Laid{run: m.run}
+	laid.keepNeeded(seqs)
+	return laid
+}
+
+// Merge tells what the tables are together, as one table on a level, where snapshots see at the batch numbers seqs.
+func Merge(tables []Laid, level int, seqs []int) Laid {
+	merged := Laid{Level: level}
+	for _, laid := range tables {
+		merged.Lay(laid.entries)
+	}
+	merged.keepNeeded(seqs)
+	return merged
+}
+
+// IsEmpty tells whether the table has no entry.
+func (t *Laid) IsEmpty() bool { return len(t.entries) == 0 }
+
+// Tell gives the table out, in memory of its own.
+func (t *Laid) Tell() api.Table {
+	return api.Table{Level: t.Level, Entries: slices.Clone(t.entries)}
+}
+
 // Find tells, of the entries of the key, the one with the greatest Seq that is not above seq.
 func (r *run) Find(key string, seq int) (api.Entry, bool) {
 	at := place(r.entries, key, seq)

@@ -101,6 +101,77 @@ func TestLayKeepsTheOrder(t *testing.T) {
 	}
 }
 
+func gone(key string, seq int) api.Entry {
+	return api.Entry{Key: key, Seq: seq, Gone: true}
+}
+
+// laid: a table of entries, in whichever order they come.
+func laid(level int, entries ...api.Entry) Laid {
+	return Laid{run: memory(entries...).run, Level: level}
+}
+
+func isLaid(t *testing.T, got Laid, level int, want ...api.Entry) {
+	t.Helper()
+	if got.Level != level || !slices.Equal(got.entries, want) {
+		t.Errorf("got the table %+v, want %+v on level %d", got, want, level)
+	}
+	if told := got.Tell(); told.Level != level || !slices.Equal(told.Entries, want) {
+		t.Errorf("P10: Tell() = %+v, want %+v on level %d", told, want, level)
+	}
+	if got.IsEmpty() != (len(want) == 0) {
+		t.Errorf("IsEmpty() = %v of %+v", got.IsEmpty(), want)
+	}
+}
+
+func TestDown(t *testing.T) {
+	m := memory(entry("a", 1), gone("a", 4), entry("a", 6), gone("b", 2))
+	for _, c := range []struct {
+		seqs []int
+		want []api.Entry
+	}{
+		{nil, []api.Entry{entry("a", 6), gone("b", 2)}},
+		{[]int{0, 6, 9}, []api.Entry{entry("a", 6), gone("b", 2)}},
+		{[]int{1}, []api.Entry{entry("a", 6), entry("a", 1), gone("b", 2)}},
+		{[]int{3}, []api.Entry{entry("a", 6), entry("a", 1), gone("b", 2)}},
+		{[]int{4}, []api.Entry{entry("a", 6), gone("a", 4), gone("b", 2)}},
+		{[]int{5}, []api.Entry{entry("a", 6), gone("a", 4), gone("b", 2)}},
+		{[]int{5, 1, 5}, []api.Entry{entry("a", 6), gone("a", 4), entry("a", 1), gone("b", 2)}},
+	} {
+		before := slices.Clone(m.entries)
+		isLaid(t, m.Down(c.seqs), 0, c.want...)
+		if !slices.Equal(m.entries, before) {
+			t.Fatalf("Down(%v) changed the table in memory: %+v, was %+v", c.seqs, m.entries, before)
+		}
+	}
+}
+
+func TestMerge(t *testing.T) {
+	tables := []Laid{
+		laid(0, gone("a", 9), entry("c", 8)),
+		laid(0, entry("b", 6), gone("d", 6)),
+		laid(1, entry("a", 2), gone("b", 3), entry("b", 1), gone("c", 4)),
+	}
+	isLaid(t, Merge(tables, 1, nil), 1, gone("a", 9), entry("b", 6), entry("c", 8), gone("d", 6))
+	isLaid(t, Merge(tables, 1, []int{3}), 1, gone("a", 9), entry("a", 2), entry("b", 6), gone("b", 3), entry("c", 8), gone("d", 6))
+	isLaid(t, Merge(tables, api.LastLevel, nil), api.LastLevel, entry("b", 6), entry("c", 8))
+	isLaid(t, Merge(tables, api.LastLevel, []int{3, 4}), api.LastLevel, gone("a", 9), entry("a", 2), entry("b", 6), entry("c", 8))
+	isLaid(t, Merge(tables, api.LastLevel, []int{1}), api.LastLevel, entry("b", 6), entry("b", 1), entry("c", 8))
+	isLaid(t, Merge([]Laid{laid(1, gone("a", 1))}, api.LastLevel, nil), api.LastLevel)
+	isLaid(t, tables[2], 1, entry("a", 2), gone("b", 3), entry("b", 1), gone("c", 4))
+}
+
+func TestKindsShareTheRun(t *testing.T) {
+	table := laid(1, entry("b", 2), entry("a", 1))
+	table.Lay([]api.Entry{entry("a", 3)})
+	isLaid(t, table, 1, entry("a", 3), entry("a", 1), entry("b", 2))
+	if got, ok := table.Find("a", 2); !ok || got != entry("a", 1) {
+		t.Errorf("Find in a table that was laid down = %+v, %v", got, ok)
+	}
+	if got, ok := table.KeyFrom("aa"); !ok || got != "b" {
+		t.Errorf("KeyFrom in a table that was laid down = %q, %v", got, ok)
+	}
+}
+
 func TestOrder(t *testing.T) {
 	in := []api.Entry{entry("\x00", 1), entry("a", 3), entry("a", 2), entry("a\x00", 9), entry("ab", 1), entry("b", 7), entry("\x80", 1), entry("\xff", 1)}
 	for i, a := range in {
