@@ -6,19 +6,23 @@ import (
 	"math/rand"
 	"slices"
 	"strconv"
+	"strings"
 	"testing"
 
 	"silo/api"
 	"silo/silo"
 )
 
-// model keeps every state that there was, so that what it reads hangs on no entry; beside them the entries of each level, for Tables alone.
+// model keeps every state that there was, so that what it reads hangs on no entry; beside them the entries of each level, for Tables alone, and the batches of the journal with their records.
 type model struct {
 	states   []map[string]string
 	snaps    map[int]int
 	lastSnap int
 	memory   []api.Entry
 	laid     [api.LastLevel + 1][]api.Table
+	batches  [][]api.Pair
+	records  []string
+	synced   int // how many of the records are
 }
 
 func newModel() *model {
@@ -27,7 +31,7 @@ func newModel() *model {
 
 func (m *model) last() int { return len(m.states) - 1 }
 
-func (m *model) write(pairs []api.Pair) int {
+func (m *model) write(pairs []api.Pair, sync bool) int {
 	state := map[string]string{}
 	for key, value := range m.states[m.last()] {
 		state[key] = value
@@ -40,20 +44,62 @@ func (m *model) write(pairs []api.Pair) int {
 		}
 	}
 	m.states = append(m.states, state)
+	var counting []api.Pair
 	for i, pair := range pairs {
 		if !slices.ContainsFunc(pairs[i+1:], func(later api.Pair) bool { return later.Key == pair.Key }) {
 			m.memory = append(m.memory, api.Entry{Key: pair.Key, Seq: m.last(), Gone: pair.Gone, Value: pair.Value})
+			counting = append(counting, pair)
 		}
+	}
+	m.batches = append(m.batches, pairs)
+	m.records = append(m.records, recordOf(counting))
+	if sync {
+		m.synced = len(m.records)
 	}
 	return m.last()
 }
 
+// recordOf: the record of pairs of different keys.
+func recordOf(pairs []api.Pair) string {
+	slices.SortFunc(pairs, func(a, b api.Pair) int { return cmp.Compare(a.Key, b.Key) })
+	bytes := []byte{byte(len(pairs))}
+	for _, pair := range pairs {
+		if pair.Gone {
+			bytes = append(bytes, 1, byte(len(pair.Key)))
+			bytes = append(bytes, pair.Key...)
+			continue
+		}
+		bytes = append(bytes, 0, byte(len(pair.Key)))
+		bytes = append(bytes, pair.Key...)
+		bytes = append(bytes, byte(len(pair.Value)))
+		bytes = append(bytes, pair.Value...)
+	}
+	return record(bytes...)
+}
+
+// crash leaves the first bytes that are not synced, of each record all or nothing.
+func (m *model) crash(bytes int) {
+	left := m.synced
+	for left < len(m.records) && bytes >= len(m.records[left]) {
+		bytes -= len(m.records[left])
+		left++
+	}
+	lost := len(m.records) - left
+	m.states = m.states[:len(m.states)-lost]
+	m.memory = slices.DeleteFunc(m.memory, func(entry api.Entry) bool { return entry.Seq > m.last() })
+	m.batches, m.records, m.synced = m.batches[:left], m.records[:left], left
+	m.snaps = map[int]int{}
+}
+
+// loose: how many bytes of the journal are not synced.
+func (m *model) loose() int { return len(strings.Join(m.records[m.synced:], "")) }
+
 func (m *model) flush() api.Errno {
-	if m.memory == nil {
+	if len(m.records) == 0 {
 		return api.ErrEmpty
 	}
 	m.laid[0] = append([]api.Table{on(0, m.needed(m.memory, 0)...)}, m.laid[0]...)
-	m.memory = nil
+	m.memory, m.batches, m.records, m.synced = nil, nil, nil, 0
 	return api.OK
 }
 
@@ -148,25 +194,49 @@ func TestStoreTellsWhatTheBatchesMake(t *testing.T) {
 		s, m := silo.New(), newModel()
 		for range 60 {
 			step(t, random, s, m)
-			tables(t, s, slices.Concat(m.laid[:]...)...)
-			compare(t, random, s, m, 0, m.last())
-			for at := -1; at <= m.lastSnap+1; at++ {
-				if seq, ok := m.snaps[at]; ok {
-					compare(t, random, s, m, at, seq)
-				} else if at != 0 {
-					getNot(t, s, "a", at, api.ErrSnap)
-				}
-			}
+			compareAll(t, random, s, m)
 			if t.Failed() {
 				return
 			}
+		}
+		compareLoaded(t, random, m)
+	}
+}
+
+func compareAll(t *testing.T, random *rand.Rand, s *silo.Store, m *model) {
+	t.Helper()
+	tables(t, s, slices.Concat(m.laid[:]...)...)
+	journal(t, s, m.records...)
+	compare(t, random, s, m, 0, m.last())
+	for at := -1; at <= m.lastSnap+1; at++ {
+		if seq, ok := m.snaps[at]; ok {
+			compare(t, random, s, m, at, seq)
+		} else if at != 0 {
+			getNot(t, s, "a", at, api.ErrSnap)
+		}
+	}
+}
+
+// compareLoaded loads the model's journal, and goes on with what that gives.
+func compareLoaded(t *testing.T, random *rand.Rand, m *model) {
+	t.Helper()
+	loaded := newModel()
+	for _, pairs := range m.batches {
+		loaded.write(pairs, true)
+	}
+	s := load(t, strings.Join(m.records, ""), len(strings.Join(m.records, "")), api.OK)
+	for range 20 {
+		compareAll(t, random, s, loaded)
+		step(t, random, s, loaded)
+		if t.Failed() {
+			return
 		}
 	}
 }
 
 func step(t *testing.T, random *rand.Rand, s *silo.Store, m *model) {
 	t.Helper()
-	switch random.Intn(10) {
+	switch random.Intn(12) {
 	case 0:
 		if len(m.snaps) < api.MaxSnaps {
 			m.lastSnap++
@@ -186,9 +256,19 @@ func step(t *testing.T, random *rand.Rand, s *silo.Store, m *model) {
 	case 4, 5:
 		level := random.Intn(api.LastLevel)
 		merge(t, s, level, m.merge(level))
+	case 6:
+		left, rounds := random.Intn(m.loose()+1), random.Intn(100)
+		keep := left + rounds*(m.loose()+1)
+		if random.Intn(2) == 0 {
+			keep = -keep - 1
+		}
+		s.Crash(keep)
+		m.crash(left)
 	default:
-		pairs := randomBatch(random)
-		write(t, s, m.write(pairs), pairs...)
+		pairs, sync := randomBatch(random), random.Intn(4) == 0
+		if n, err := s.Write(pairs, sync); n != m.write(pairs, sync) || err != api.OK {
+			t.Fatalf("P4: Write(%+v, %v) = %d, %d, want %d", pairs, sync, n, err, m.last())
+		}
 	}
 }
 

@@ -4,6 +4,7 @@ package silo
 import (
 	"silo/api"
 	"silo/batch"
+	"silo/table"
 )
 
 // Store is one store.
@@ -94,7 +95,7 @@ func (s *Store) Flush() api.Errno {
 		return api.ErrEmpty
 	}
 	s.layDown(s.snapSeqs())
-	s.journal = journal{}
+	s.journal = journal{ahead: s.last}
 	return api.OK
 }
 
@@ -117,10 +118,33 @@ func (s *Store) Tables() []api.Table { return s.tellLaid() }
 func (s *Store) Journal() string { return string(s.records) }
 
 // Load makes a store out of a journal's bytes (P12).
-func Load(journal string) (*Store, int, api.Errno) { return nil, 0, api.OK }
+func Load(journal string) (*Store, int, api.Errno) {
+	s := New()
+	end := s.restore(journal)
+	if end < len(journal) {
+		return s, end, api.ErrTorn
+	}
+	return s, end, api.OK
+}
+
+// restore begins anew behind what was laid down, with the whole records that the text begins with, and tells where they end.
+func (s *Store) restore(text string) int {
+	batches, end := batch.ReadAll(text)
+	var entries []api.Entry
+	for i, settled := range batches {
+		entries = append(entries, batch.Entries(settled, s.ahead+1+i)...)
+	}
+	s.last = s.ahead + len(batches)
+	s.memory = table.NewMemory(entries)
+	s.hold(text[:end])
+	return end
+}
 
 // Crash loses what does not last (P13).
-func (s *Store) Crash(keep int) {}
+func (s *Store) Crash(keep int) {
+	s.dropAllSnaps()
+	s.restore(s.outlasting(keep))
+}
 
 // Run lets clients work on the store, turn by turn (P14 to P16).
 func (s *Store) Run(clients [][]api.Call, picks []int) ([]api.Done, api.Errno) { return nil, api.OK }

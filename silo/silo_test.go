@@ -82,7 +82,7 @@ func record(bytes ...byte) string {
 func journal(t *testing.T, s *silo.Store, want ...string) {
 	t.Helper()
 	if got := s.Journal(); got != strings.Join(want, "") {
-		t.Errorf("P4: the journal is %q, want %q", got, want)
+		t.Errorf("P11: Journal() = %q, want %q", got, want)
 	}
 }
 

@@ -35,6 +35,9 @@ func (l *snapshots) dropSnap(number int) bool {
 	return ok
 }
 
+// dropAllSnaps lets all snapshots go.
+func (l *snapshots) dropAllSnaps() { l.snaps = nil }
+
 // snapSeq tells the batch number at which a snapshot sees.
 func (l *snapshots) snapSeq(number int) (int, bool) {
 	at, ok := l.indexSnap(number)

@@ -26,6 +26,11 @@ type Laid struct {
 	Level int
 }
 
+// NewMemory makes a table in memory of entries that are in whichever order. They are put in order all at once: laid one by one, each would move those behind it.
+func NewMemory(entries []api.Entry) Memory {
+	return Memory{run{entries: slices.SortedFunc(slices.Values(entries), order)}}
+}
+
 // Down tells what the table in memory is on level 0, where snapshots see at the batch numbers seqs.
 func (m *Memory) Down(seqs []int) Laid {
 	laid := Laid{run: m.run}

@@ -182,3 +182,20 @@ func TestOrder(t *testing.T) {
 		}
 	}
 }
+
+func TestNewMemory(t *testing.T) {
+	in := []api.Entry{entry("b", 1), gone("a", 1), entry("a", 3), entry("\xff", 2), entry("a", 2)}
+	before := slices.Clone(in)
+	m := NewMemory(in)
+	if !slices.Equal(in, before) {
+		t.Errorf("NewMemory changed what it was given: %+v, was %+v", in, before)
+	}
+	in[0] = entry("other", 9)
+	m.Lay([]api.Entry{entry("ab", 4)})
+	if want := []api.Entry{entry("a", 3), entry("a", 2), gone("a", 1), entry("ab", 4), entry("b", 1), entry("\xff", 2)}; !slices.Equal(m.entries, want) {
+		t.Errorf("NewMemory made %+v, want %+v", m.entries, want)
+	}
+	if none := NewMemory(nil); len(none.entries) != 0 {
+		t.Errorf("NewMemory of nothing has %+v", none.entries)
+	}
+}
