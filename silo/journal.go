@@ -25,9 +25,6 @@ func (j *journal) syncAll() {
 
 // outlasting tells the bytes that are left when all stops: those that are synced, and as many of the others as keep says (P13).
 func (j *journal) outlasting(keep int) string {
-	if keep < 0 {
-		keep = -(keep + 1)
-	}
 	others := len(j.records) - j.synced
-	return string(j.records[:j.synced+keep%(others+1)])
+	return string(j.records[:j.synced+rest(keep, others+1)])
 }

@@ -1,6 +1,7 @@
 package silo_test
 
 import (
+	"reflect"
 	"slices"
 	"testing"
 
@@ -144,5 +145,98 @@ func TestTablesStayWhatTheyWere(t *testing.T) {
 	merge(t, s, 1, api.OK)
 	if want := []api.Table{on(0, put("a", 1, "1"), put("b", 1, "1"))}; !equalTables(got, want) {
 		t.Errorf("P2: what Tables gave was changed later: %+v, want %+v", got, want)
+	}
+}
+
+// roomy: the list, with one more behind it that it does not reach.
+func roomy[T any](spare T, list ...T) []T { return append(list, spare)[:len(list)] }
+
+// handIn: clients and picks, each of their lists with spare room.
+func handIn() ([][]api.Call, []int) {
+	pairs := func(list ...api.Pair) []api.Pair { return roomy(is("spare", "room"), list...) }
+	spare := writes(is("spare", "calls"))
+	return roomy([]api.Call{spare},
+		roomy(spare, writes(pairs(is("z", "1"), is("y", "2"), is("z", "3"))...), scans("", 9, 0), scans("", 9, 0)),
+		roomy(spare, writesSynced(pairs(is("x", "4"), gone("w"))...), snaps(), gets("x", -1)),
+		roomy(spare, writes(pairs(is("c", "5"))...)),
+	), roomy(1, 0, 1, -1, 0, 0, 1, 1, -2, 2)
+}
+
+// whole: the clients and picks, their spare room too.
+func whole(clients [][]api.Call, picks []int) ([][]api.Call, []int) {
+	var all [][]api.Call
+	for _, calls := range clients[:len(clients)+1] {
+		calls = slices.Clone(calls[:cap(calls)])
+		for i := range calls {
+			calls[i].Pairs = calls[i].Pairs[:cap(calls[i].Pairs)]
+		}
+		all = append(all, calls)
+	}
+	return all, picks[:len(picks)+1]
+}
+
+func TestRunLeavesWhatIsHandedIn(t *testing.T) {
+	clients, picks := handIn()
+	if done, err := silo.New().Run(clients, picks); len(done) != 7 || err != api.OK {
+		t.Fatalf("P14: Run = %+v, %d", done, err)
+	}
+	gotCalls, gotPicks := whole(clients, picks)
+	wantCalls, wantPicks := whole(handIn())
+	if !reflect.DeepEqual(gotCalls, wantCalls) || !slices.Equal(gotPicks, wantPicks) {
+		t.Errorf("P2: Run changed what was handed in: %+v, %v", gotCalls, gotPicks)
+	}
+}
+
+func TestRunKeepsNoList(t *testing.T) {
+	s, same := silo.New(), silo.New()
+	clients, picks := handIn()
+	done, _ := s.Run(clients, picks)
+	want, _ := same.Run(handIn())
+	calls, _ := whole(clients, picks)
+	for _, list := range calls {
+		for _, call := range list {
+			for i := range call.Pairs {
+				call.Pairs[i] = gone("other")
+			}
+		}
+	}
+	for _, list := range clients {
+		clear(list)
+	}
+	clear(picks)
+	if !slices.EqualFunc(done, want, equalDone) {
+		t.Errorf("P2: the answer of Run hangs on what was handed in: %+v, was %+v", done, want)
+	}
+	scan(t, s, "", 9, 0, is("x", "4"), is("y", "2"), is("z", "3"))
+	journal(t, s, same.Journal())
+}
+
+func TestRunGivesNewMemory(t *testing.T) {
+	s := silo.New()
+	write(t, s, 1, is("a", "1"), is("b", "2"), is("c", "3"))
+	clients := [][]api.Call{{scans("", 9, 0), scans("", 9, 0)}, {scans("", 2, 0), snaps(), scans("", 9, -1)}}
+	first, _ := s.Run(clients, rounds(2, 6))
+	var want []api.Done
+	for _, done := range first {
+		done.Pairs = slices.Clone(done.Pairs)
+		want = append(want, done)
+	}
+	other := is("other", "others")
+	for i, done := range first {
+		room := done.Pairs[:cap(done.Pairs)]
+		if slices.Contains(room, other) {
+			t.Errorf("P2: the list of answer %d shares memory with one ahead of it", i)
+		}
+		for k := range room {
+			room[k] = other
+		}
+	}
+	clear(first[:cap(first)])
+	drop(t, s, 1, api.OK)
+	scan(t, s, "", 9, 0, is("a", "1"), is("b", "2"), is("c", "3"))
+	second, _ := s.Run(clients, rounds(2, 6))
+	want[3].N = 2
+	if !slices.EqualFunc(second, want, equalDone) {
+		t.Errorf("P2: Run = %+v behind one whose answer was written into, want %+v", second, want)
 	}
 }

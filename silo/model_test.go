@@ -236,7 +236,7 @@ func compareLoaded(t *testing.T, random *rand.Rand, m *model) {
 
 func step(t *testing.T, random *rand.Rand, s *silo.Store, m *model) {
 	t.Helper()
-	switch random.Intn(12) {
+	switch random.Intn(13) {
 	case 0:
 		if len(m.snaps) < api.MaxSnaps {
 			m.lastSnap++
@@ -264,6 +264,8 @@ func step(t *testing.T, random *rand.Rand, s *silo.Store, m *model) {
 		}
 		s.Crash(keep)
 		m.crash(left)
+	case 7:
+		stepRun(t, random, s, m)
 	default:
 		pairs, sync := randomBatch(random), random.Intn(4) == 0
 		if n, err := s.Write(pairs, sync); n != m.write(pairs, sync) || err != api.OK {

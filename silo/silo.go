@@ -145,6 +145,3 @@ func (s *Store) Crash(keep int) {
 	s.dropAllSnaps()
 	s.restore(s.outlasting(keep))
 }
-
-// Run lets clients work on the store, turn by turn (P14 to P16).
-func (s *Store) Run(clients [][]api.Call, picks []int) ([]api.Done, api.Errno) { return nil, api.OK }
